@@ -1,0 +1,1 @@
+"""Review rules as a small language."""
