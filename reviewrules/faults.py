@@ -64,6 +64,16 @@ class NoPath(Refusal):
         Refusal.__init__(self, 11, 0)
 
 
+class NoChange(Refusal):
+    def __init__(self):
+        Refusal.__init__(self, 12, 0)
+
+
+class IsTheAuthor(Refusal):
+    def __init__(self):
+        Refusal.__init__(self, 13, 0)
+
+
 class NoPattern(Refusal):
     def __init__(self):
         Refusal.__init__(self, 14, 0)

@@ -2,9 +2,20 @@
 
 from reviewrules.changes import answers
 
-RULES, FAULT, SHOW, FORM, SAME, MEMBERS, MATCHES, BEGIN = range(8)
+(
+    RULES, FAULT, SHOW, FORM, SAME, MEMBERS, MATCHES, BEGIN,
+    EDIT, APPROVE, VETO, WITHDRAW, STATUS, VERDICT, MISSING, TOLD,
+) = range(16)
 
 PEOPLE = "person ann, bob, cyd; group two = ann, bob; group all_of = two, cyd"
+
+# Three statements, so that those put behind them are counted from 4.
+FOUR = "person ann, bob, cyd, dan; group two = bob, cyd; group more = two, dan; "
+
+NO_PATHS = [
+    "", "/", "x/", "/x", "x//y", "a/b/c/d/e", "X", "x y", "*", "x/*", "**", "x/**", "'x'", "x\n", [0], [255], "a" * 13,
+    "x/" + "a" * 13, "/".join(["a" * 12] * 3) + "/ab", "a" * 60, [97] * 11 + [200],
+]
 
 
 def codes(text):
@@ -53,6 +64,23 @@ def fault(text):
 
 def counted(text):
     return [len(text)] + codes(text)
+
+
+def counted_all(names):
+    numbers = [len(names)]
+    for name in names:
+        numbers.extend(counted(name))
+    return numbers
+
+
+def status(author, version, paths=(), approvals=(), vetoes=()):
+    """What the call status answers of such a change; paths and approvals are pairs with a version."""
+    numbers = [1] + counted(author) + [version]
+    for pairs in (paths, approvals):
+        numbers.append(len(pairs))
+        for name, its_version in pairs:
+            numbers.extend(counted(name) + [its_version])
+    return numbers + counted_all(vetoes)
 
 
 def shown(text):

@@ -2,8 +2,16 @@
 
 import unittest
 
-from reviewrules.changes import Desk, answer_call
-from tests.helper import BEGIN, PEOPLE, RULES, ask, ask_all, ask_last, call, codes
+from tests.helper import (
+    APPROVE, BEGIN, EDIT, MEMBERS, PEOPLE, RULES, SHOW, STATUS, VERDICT, VETO, ask, ask_all, ask_last, call, counted,
+    status,
+)
+
+BUSY = [
+    call(RULES, PEOPLE), call(BEGIN, "ann"), call(EDIT, "x"), call(APPROVE, "bob"), call(EDIT, "y/z"),
+    call(VETO, "cyd"), call(VETO, "bob"),
+]
+BUSY_STATUS = status("ann", 2, [("x", 1), ("y/z", 2)], [("bob", 1)], ["cyd", "bob"])
 
 
 class TestBegin(unittest.TestCase):
@@ -28,45 +36,35 @@ class TestBegin(unittest.TestCase):
 
 
 class TestTheChange(unittest.TestCase):
-    def setUp(self):
-        self.desk = Desk()
-        self.assertIsNone(self.desk.change)
-        self.ask(RULES, PEOPLE)
-
-    def ask(self, number, text):
-        return answer_call(self.desk, number, [codes(text)])
-
     def test_is_new(self):
-        self.assertEqual(self.ask(BEGIN, "ann"), [0])
-        change = self.desk.change
-        self.assertEqual((change.author, change.version), ("ann", 0))
-        self.assertEqual((len(change.paths), len(change.approvals), len(change.vetoes)), (0, 0, 0))
+        self.assertEqual(ask_last(call(RULES, PEOPLE), call(BEGIN, "ann"), call(STATUS)), status("ann", 0))
 
     def test_takes_the_place_of_the_old_one(self):
-        self.ask(BEGIN, "ann")
-        old = self.desk.change
-        self.ask(BEGIN, "bob")
-        self.assertEqual(self.desk.change.author, "bob")
-        self.ask(BEGIN, "ann")
-        self.assertIsNot(self.desk.change, old)
+        self.assertEqual(ask_last(*BUSY, call(STATUS)), BUSY_STATUS)
+        for author in ("ann", "bob"):
+            self.assertEqual(ask_last(*BUSY, call(BEGIN, author), call(STATUS)), status(author, 0))
 
     def test_stays_where_begin_is_refused(self):
-        self.ask(BEGIN, "ann")
-        old = self.desk.change
         for name in ("two", "dan", ""):
-            self.assertEqual(self.ask(BEGIN, name), [-6])
-            self.assertIs(self.desk.change, old)
+            with self.subTest(name=name):
+                self.assertEqual(ask_all(*BUSY, call(BEGIN, name), call(STATUS))[-2:], [[-6], BUSY_STATUS])
 
     def test_is_gone_with_new_rules(self):
-        self.ask(BEGIN, "ann")
-        self.assertEqual(self.ask(RULES, PEOPLE), [3])
-        self.assertIsNone(self.desk.change)
+        for text in (PEOPLE, "person ann", "sticky '*'"):
+            with self.subTest(text=text):
+                told = ask_all(*BUSY, call(RULES, text), call(STATUS), call(VERDICT), call(EDIT, "x"))
+                self.assertEqual(told[-3:], [[0], [-12], [-12]])
 
     def test_stays_where_rules_are_refused(self):
-        self.ask(BEGIN, "ann")
-        old = self.desk.change
-        self.assertEqual(self.ask(RULES, "person a, a"), [-7])
-        self.assertIs(self.desk.change, old)
+        refused = {
+            -1: " " * 1001, -2: "?", -3: "default need " + "(" * 41, -4: "person", -6: "group g = a", -7: "person a, a",
+            -8: "person a; group g = a; default need 2 of g", -9: "person a, b, c, d, e, f, g, h; person i",
+            -5: "default need a" + " or a" * 40, -10: "person a; default need a; default need a",
+        }
+        for number, text in refused.items():
+            with self.subTest(number=number):
+                told = ask_all(*BUSY, call(RULES, text), call(STATUS), call(SHOW), call(MEMBERS, "cyd"))
+                self.assertEqual(told[-4:], [[number], BUSY_STATUS, counted(PEOPLE), [1] + counted("cyd")])
 
 
 if __name__ == "__main__":
